@@ -14,10 +14,11 @@ import (
 	"muntin/syntax"
 )
 
-func ref(s string) api.Node               { return api.Node{Kind: api.Ref, Text: s} }
-func lit(s string) api.Node               { return api.Node{Kind: api.Lit, Text: s} }
-func bare(kind int) api.Node              { return api.Node{Kind: kind} }
-func ruled(rules ...api.Rule) api.Grammar { return api.Grammar{Rules: rules} }
+func ref(s string) api.Node                    { return api.Node{Kind: api.Ref, Text: s} }
+func lit(s string) api.Node                    { return api.Node{Kind: api.Lit, Text: s} }
+func bare(kind int) api.Node                   { return api.Node{Kind: kind} }
+func over(kind int, subs ...api.Node) api.Node { return api.Node{Kind: kind, Subs: subs} }
+func ruled(rules ...api.Rule) api.Grammar      { return api.Grammar{Rules: rules} }
 
 // placed is a node of one part, at a place.
 func placed(kind, at int, part api.Node) api.Node {
