@@ -22,7 +22,8 @@ func (m maker) form(n api.Node) api.Node {
 	case api.Lit, api.Ref:
 		return api.Node{Kind: n.Kind, Text: n.Text}
 	case api.Set, api.Any:
-		return single(classOf(n))
+		c, _ := classOf(n)
+		return single(c)
 	case api.Seq:
 		return row(parts)
 	case api.Alt:

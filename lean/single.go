@@ -3,28 +3,14 @@ package lean
 import (
 	"muntin/api"
 	"muntin/class"
+	"muntin/singles"
 )
 
 // quote is the one byte that is shorter in a class than in a literal.
 const quote = '\''
 
-// isSingle tells whether an expression takes one byte, if it succeeds, by a look at that byte alone.
-func isSingle(n api.Node) bool {
-	return n.Kind == api.Set || n.Kind == api.Any || n.Kind == api.Lit && len(n.Text) == 1
-}
-
-// classOf are the bytes that a single takes.
-func classOf(n api.Node) api.Class {
-	switch n.Kind {
-	case api.Lit:
-		// A byte is never out of a class's range: no error is told.
-		c, _ := class.Range(int(n.Text[0]), int(n.Text[0]))
-		return c
-	case api.Any:
-		return class.Not(api.Class{})
-	}
-	return n.Class
-}
+// classOf are the bytes that an expression takes, if it is a single.
+func classOf(n api.Node) (api.Class, bool) { return singles.Class(n.Kind, n.Text, n.Class) }
 
 // single is the one of a class.
 func single(c api.Class) api.Node {
@@ -43,8 +29,10 @@ func single(c api.Class) api.Node {
 
 // eitherSingle is one single in place of two in a choice.
 func eitherSingle(ahead, next api.Node) (api.Node, bool) {
-	if !isSingle(ahead) || !isSingle(next) {
+	c, isOne := classOf(ahead)
+	d, isToo := classOf(next)
+	if !isOne || !isToo {
 		return api.Node{}, false
 	}
-	return single(class.Either(classOf(ahead), classOf(next))), true
+	return single(class.Either(c, d)), true
 }
